@@ -1,0 +1,1 @@
+"""Linkorder: one command line that links every program."""

@@ -31,16 +31,26 @@ def closure(library, program):
     return tuple(sorted(reached))
 
 
-def obstacles(library, program):
-    """Return the symbols that nothing defines and those that are defined twice, both ascending."""
-    # The closure comes first because it refuses what is not a program.
-    members = [library.member(name) for name in closure(library, program)]
-    defines, needs = program
+def needed_symbols(program, members):
+    """Return the symbols that the program and the members need, as often as they do."""
+    return list(program[1]) + [symbol for member in members for symbol in member[2]]
+
+
+def unmet_and_doubled(program, members):
+    """Return the needed symbols that nothing defines and those that the program and a member define, ascending."""
+    defines = program[0]
     supplied = {symbol for member in members for symbol in member[1]}
-    needed = {symbol for symbols in [needs] + [member[2] for member in members] for symbol in symbols}
-    undefined = [symbol for symbol in sorted(needed) if symbol not in defines and symbol not in supplied]
+    needed = sorted(set(needed_symbols(program, members)))
+    undefined = [symbol for symbol in needed if symbol not in defines and symbol not in supplied]
     duplicates = [symbol for symbol in defines if symbol in supplied]
     return tuple(undefined), tuple(duplicates)
+
+
+def obstacles(library, program):
+    """Return the symbols that nothing defines and those that are defined twice, both ascending."""
+    # The closure refuses what is not a program.
+    names = closure(library, program)
+    return unmet_and_doubled(program, [library.member(name) for name in names])
 
 
 def is_buildable(library, program):

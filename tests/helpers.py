@@ -23,6 +23,55 @@ WRONG_NAMES = ('', 'abcdefghi', 'A', 'aB', 'a b', ' a', 'a ', 'a\n', '\n', '-', 
 RIGHT_NAMES = ('a', 'z', '0', '9', 'm5', '00000000', 'zzzzzzzz', 'a1b2c3d4', 'abcdefgh', '12345678')
 
 
+# Members that use each other in a ring over three archives, with an archive without members between them.
+RING = (
+    ('a', (('m1', ('s1',), ('s2',)), ('m4', ('s4',), ('s1',)))),
+    ('b', (('m2', ('s2',), ('s3',)),)),
+    ('c', ()),
+    ('d', (('m3', ('s3',), ('s4',)),)),
+)
+
+# 1 + 3 + .. members in layers, each of which uses all of the next layer: 1000 chains, and with one more member 1001.
+LAYERS_1000 = (1, 3, 2, 4, 3, 4)
+# The same for more than 1000 chains, dealt over the archives in such a way that there are more than 5000 states, too.
+LAYERS_CROWDED = (3, 3, 3, 3, 3, 3)
+
+# Rows of members, written as the archives of their members, that have just this many states.
+ROWS_5000 = ('bcd', 'bada', 'cacab', 'dbda', 'efef', 'ghgh')
+ROWS_5001 = ('cege', 'gd', 'bgfef', 'aeb', 'hdbhbhf', 'fcb')
+
+
+def row_of(count, last=()):
+    """Return eight archives over which a row of members is dealt; each needs the next one's symbol."""
+    members = [(f'm{at:02}', (f's{at:02}',), (f's{at + 1:02}',) if at + 1 < count else last) for at in range(count)]
+    return tuple((f'a{at}', tuple(members[at::8])) for at in range(8))
+
+
+def rows_of(rows, names=()):
+    """Return archives with one letter each, and in them members that use the next one of their row."""
+    homes = {name: [] for name in sorted(set(''.join(rows)) | set(names))}
+    for number, row in enumerate(rows):
+        for at, home in enumerate(row):
+            needs = (f's{number}x{at + 1}',) if at + 1 < len(row) else ()
+            homes[home].append((f'm{number}x{at}', (f's{number}x{at}',), needs))
+    return tuple((home, tuple(sorted(homes[home]))) for home in homes)
+
+
+def layers_of(widths, single=0):
+    """Return archives with layers of members, each of which uses all of the next layer, and some single members."""
+    homes = {f'a{at}': [] for at in range(8)}
+    dealt = 0
+    for layer, width in enumerate(widths):
+        behind = widths[layer + 1] if layer + 1 < len(widths) else 0
+        for at in range(width):
+            needs = tuple(f's{layer + 1}x{other}' for other in range(behind))
+            homes[f'a{dealt * 3 % 8}'].append((f'm{layer}x{at}', (f's{layer}x{at}',), needs))
+            dealt += 1
+    for at in range(single):
+        homes['a7'].append((f'n{at}', (f't{at}',), ()))
+    return tuple((home, tuple(sorted(homes[home]))) for home in homes)
+
+
 def run_examples(text, known):
     """Return how many of the examples in a text were run, and how many failed, with these names known."""
     test = doctest.DocTestParser().get_doctest(text, dict(known), 'examples', None, 0)
@@ -108,10 +157,10 @@ def same_value(one, other):
 
 
 def only_tuples(value):
-    """Tell whether a value is made of tuples, strings and None alone."""
+    """Tell whether a value is made of tuples, strings, integers and None alone."""
     if isinstance(value, tuple):
         return all(only_tuples(item) for item in value)
-    return value is None or type(value) is str
+    return value is None or type(value) in (str, int)
 
 
 def keyword_calls(function, **arguments):
@@ -182,6 +231,152 @@ def read_obstacles(archives, program):
     return tuple(sorted(needed - defined - set(program[0]))), tuple(sorted(defined & set(program[0])))
 
 
+def reads_as_line(archives, value):
+    names = {archive[0] for archive in archives}
+    if type(value) is not tuple or len(value) > 200:
+        return False
+    for item in value:
+        if type(item) is str and item in names:
+            continue
+        if type(item) is not tuple or len(item) < 2 or not all(type(name) is str and name in names for name in item):
+            return False
+        if list(item) != sorted(set(item)):
+            return False
+    return True
+
+
+def read_members(archives):
+    """Return for each member's name its archive, what it defines and what it needs."""
+    return {name: (home, set(defines), set(needs)) for home, members in archives for name, defines, needs in members}
+
+
+def read_link(archives, line, program, source):
+    """Link as the document says, one member after the other, in an order that the random source decides."""
+    members = read_members(archives)
+    needed, defined, left, pulled = set(program[1]), set(program[0]), set(members), []
+    for item in line:
+        here = []
+        while True:
+            ready = [name for name in sorted(left) if members[name][0] in ([item] if type(item) is str else item)
+                     and members[name][1] & needed - defined]
+            if not ready:
+                break
+            name = source.choice(ready)
+            left.remove(name)
+            here.append(name)
+            defined |= members[name][1]
+            needed |= members[name][2]
+        pulled.append(tuple(sorted(here)))
+    twice = [symbol for symbol in program[0] if any(symbol in members[name][1] for here in pulled for name in here)]
+    return tuple(pulled), tuple(sorted(needed - defined)), tuple(twice)
+
+
+def read_uses(archives):
+    members = read_members(archives)
+    pairs = itertools.permutations(sorted(members), 2)
+    return tuple((one, other) for one, other in pairs if members[one][2] & members[other][1])
+
+
+def reads_as_chain(archives, value):
+    pairs = set(read_uses(archives))
+    if type(value) is not tuple or not value or not all(type(name) is str for name in value):
+        return False
+    if len(set(value)) < len(value) or not set(value) <= set(read_members(archives)):
+        return False
+    places = itertools.combinations(range(len(value)), 2)
+    return all(((value[one], value[other]) in pairs) == (other == one + 1) for one, other in places)
+
+
+def read_chains(archives):
+    """Return all chains, however many: first those of one member, then what each grows to by one more behind it."""
+    pairs = set(read_uses(archives))
+    names = sorted(read_members(archives))
+    found, grown = [], [(name,) for name in names]
+    while grown:
+        found += grown
+        grown = [chain + (name,) for chain in grown for name in names if name not in chain
+                 and [other for other in chain if (other, name) in pairs] == [chain[-1]]]
+    return tuple(found)
+
+
+def read_word(archives, chain):
+    members = read_members(archives)
+    return tuple(home for home, _ in itertools.groupby(members[name][0] for name in chain))
+
+
+def reads_as_part(part, whole):
+    left = iter(whole)
+    return all(item in left for item in part)
+
+
+def read_words(archives):
+    every = {read_word(archives, chain) for chain in read_chains(archives)}
+    return tuple(sorted(one for one in every if not any(one != other and reads_as_part(one, other) for other in every)))
+
+
+def most_letters(line, letters):
+    """Return how many letters can be read at most, however many of them each item reads."""
+    places = {0}
+    for item in line:
+        for at in sorted(places):
+            while at < len(letters) and (letters[at] == item or type(item) is tuple and letters[at] in item):
+                at += 1
+                places.add(at)
+    return max(places)
+
+
+def reads_as_serving(archives, line):
+    every = {read_word(archives, chain) for chain in read_chains(archives)}
+    return all(most_letters(line, letters) == len(letters) for letters in every)
+
+
+def read_step(every, state, archive):
+    return tuple(at + 1 if letters[at:at + 1] == (archive,) else at for letters, at in zip(every, state))
+
+
+def read_lines(archives, every, start, limit=10 ** 6):
+    """Return the least of the shortest lines that lead from a state of these words to each other one."""
+    lines, grown = {start: ()}, [start]
+    while grown and len(lines) <= limit:
+        fresh = []
+        for state in grown:
+            for name, _ in archives:
+                behind = read_step(every, state, name)
+                if behind not in lines:
+                    lines[behind] = lines[state] + (name,)
+                    fresh.append(behind)
+        grown = fresh
+    return lines
+
+
+def subsets(pool):
+    return [part for size in range(len(pool) + 1) for part in itertools.combinations(pool, size)]
+
+
+def buildable_programs(archives, pool):
+    """Return every buildable program over the symbols of the pool."""
+    programs = itertools.product(subsets(pool), repeat=2)
+    return [program for program in programs if read_obstacles(archives, program) == ((), ())]
+
+
+def every_line(archives, most):
+    """Return every line of at most so many items."""
+    names = [archive[0] for archive in archives]
+    items = names + [part for part in subsets(names) if len(part) > 1]
+    return [line for size in range(most + 1) for line in itertools.product(items, repeat=size)]
+
+
+def some_lines(source, archives, count):
+    """Return lines with and without groups that a random source decides."""
+    items = [archive[0] for archive in archives]
+    groups = [part for part in subsets(items) if len(part) > 1]
+    lines = []
+    for number in range(count):
+        pool = items + groups if number % 2 else items
+        lines.append(tuple(source.choice(pool) for _ in range(source.randint(0, 8) if pool else 0)))
+    return lines
+
+
 def some_symbols(source, pool, least, most):
     return tuple(sorted(source.sample(pool, source.randint(least, min(most, len(pool))))))
 
@@ -208,3 +403,18 @@ def sample_programs(seed):
     source = random.Random(seed)
     pool = ['s%d' % number for number in range(30)] + ['x', 'y']
     return [(some_symbols(source, pool, 0, 4), some_symbols(source, pool, 0, 3)) for _ in range(12)]
+
+
+def small_archives(seed):
+    """Return archives with few members over the symbols s0 to s3, which are all defined or not, and x."""
+    source = random.Random(seed)
+    pool = ['s0', 's1', 's2', 's3', 'x']
+    loose = pool[:4]
+    source.shuffle(loose)
+    homes = {home: [] for home in ('a', 'b', 'c')[:source.randint(1, 3)]}
+    number = 0
+    while loose and number < source.randint(1, 9):
+        defines = tuple(sorted(loose.pop() for _ in range(source.choice((1, 1, 1, 2))) if loose))
+        homes[source.choice(sorted(homes))].append((f'm{number}', defines, some_symbols(source, pool, 0, 3)))
+        number += 1
+    return tuple((home, tuple(homes[home])) for home in homes)

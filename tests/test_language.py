@@ -33,7 +33,11 @@ BARRED_NAMES = set(
 BARRED_NODES = (
     ast.Global, ast.AsyncFunctionDef, ast.AsyncFor, ast.AsyncWith, ast.Await, ast.Div, ast.MatMult, ast.Import,
     ast.TryStar)
+# These take no generators, because a class of the package has __eq__.
 TAKE_LISTS = ('any', 'all', 'min', 'max', 'sum', 'sorted')
+KEYWORDS = {'sorted': {'key', 'reverse'}, 'min': {'key', 'default'}, 'max': {'key', 'default'}, 'sum': {'start'},
+            'enumerate': {'start'}, 'zip': {'strict'}}
+CHANGES = ('append', 'clear', 'extend', 'insert', 'pop', 'remove', 'reverse', 'setdefault', 'update', 'sort', 'add', 'discard')
 PLAIN_NAME = re.compile('[A-Za-z][A-Za-z0-9_]*')
 
 
@@ -134,11 +138,9 @@ def name_faults(tree):
 
 def set_faults(tree):
     """Return the rules that sets break: where they stand, and what happens to the stored ones."""
-    makes = (ast.Set, ast.SetComp)
     for parent in ast.walk(tree):
         for node in ast.iter_child_nodes(parent):
-            called = isinstance(node, ast.Call) and isinstance(node.func, ast.Name) and node.func.id == 'set'
-            if not called and not isinstance(node, makes):
+            if not makes_set(node):
                 continue
             inside = isinstance(parent, ast.Call) and isinstance(parent.func, ast.Name) and parent.func.id in ('sorted', 'len')
             stored = isinstance(parent, ast.Assign) and [isinstance(target, ast.Name) for target in parent.targets] == [True]
@@ -147,7 +149,58 @@ def set_faults(tree):
                 yield 'L24 set'
 
 
-def expression_faults(node, has_eq):
+def function_parts(function):
+    """Return everything inside a function, nested functions included."""
+    return [part for statement in function.body for part in ast.walk(statement)]
+
+
+def stored_set_faults(function):
+    """Return the rules that the sets which a function stores break."""
+    parents = {child: parent for parent in ast.walk(function) for child in ast.iter_child_nodes(parent)}
+    makes = [part.targets[0].id for part in function_parts(function) if isinstance(part, ast.Assign)
+             and isinstance(part.targets[0], ast.Name) and makes_set(part.value)]
+    for node in function_parts(function):
+        if not isinstance(node, ast.Name) or node.id not in makes:
+            continue
+        parent = parents[node]
+        method = isinstance(parent, ast.Attribute) and parent.attr in ('add', 'discard')
+        tested = isinstance(parent, ast.Compare) and (parent.left is not node or isinstance(parent.ops[0], (ast.Eq, ast.NotEq)))
+        taken = isinstance(parent, ast.Call) and isinstance(parent.func, ast.Name) and parent.func.id in ('sorted', 'len')
+        asked = isinstance(parent, (ast.If, ast.While, ast.UnaryOp))
+        made = isinstance(parent, ast.Assign) and isinstance(node.ctx, ast.Store) and makes.count(node.id) == 1
+        if not (method or tested or taken or asked or made):
+            yield 'L24 stored set'
+
+
+def makes_set(node):
+    called = isinstance(node, ast.Call) and isinstance(node.func, ast.Name) and node.func.id == 'set'
+    return called or isinstance(node, (ast.Set, ast.SetComp))
+
+
+def loop_faults(loop):
+    """Return the rules that a loop breaks by changing what it iterates over."""
+    over = {part.id for part in ast.walk(loop.iter) if isinstance(part, ast.Name)}
+    for part in [part for statement in loop.body for part in ast.walk(statement)]:
+        if isinstance(part, ast.Call) and isinstance(part.func, ast.Attribute) and isinstance(part.func.value, ast.Name):
+            if part.func.value.id in over and part.func.attr in CHANGES:
+                yield 'L23 loop'
+        if isinstance(part, (ast.Subscript, ast.Name)) and isinstance(part.ctx, (ast.Store, ast.Del)):
+            name = part.value if isinstance(part, ast.Subscript) else part
+            if isinstance(name, ast.Name) and name.id in over:
+                yield 'L23 loop'
+
+
+def call_faults(node):
+    """Return the rules that the call of a builtin breaks by its keywords, or by what it iterates over."""
+    called = node.func.id if isinstance(node.func, ast.Name) else ''
+    names = {keyword.arg for keyword in node.keywords}
+    if called in BUILTINS and not names <= KEYWORDS.get(called, set()):
+        yield 'L22 keyword'
+    if called in TAKE_LISTS and any(isinstance(part, ast.GeneratorExp) for part in node.args):
+        yield 'L7 generator'
+
+
+def expression_faults(node):
     """Return the rules that one expression or statement breaks by itself."""
     if isinstance(node, BARRED_NODES):
         yield 'L6 or L7 node'
@@ -159,9 +212,10 @@ def expression_faults(node, has_eq):
             single = isinstance(sides[at + 1], ast.Constant) and sides[at + 1].value in (None, True, False)
             if isinstance(sign, (ast.Is, ast.IsNot)) and not single:
                 yield 'L20 is'
-    if isinstance(node, ast.Call) and isinstance(node.func, ast.Name) and has_eq and node.func.id in TAKE_LISTS:
-        if any(isinstance(part, ast.GeneratorExp) for part in node.args):
-            yield 'L7 generator'
+    if isinstance(node, ast.Call):
+        yield from call_faults(node)
+    if isinstance(node, ast.For):
+        yield from loop_faults(node)
     if isinstance(node, ast.Raise) and node.exc is not None:
         if not (isinstance(node.exc, ast.Call) and isinstance(node.exc.func, ast.Name)):
             yield 'L19 raise'
@@ -170,6 +224,7 @@ def expression_faults(node, has_eq):
         if caught in ('all', 'Exception', 'TypeError', '()'):
             yield 'L19 except'
     if isinstance(node, ast.FunctionDef):
+        yield from stored_set_faults(node)
         if node.end_lineno - node.lineno >= 40:
             yield 'L10 function'
         if node.args.posonlyargs:
@@ -181,10 +236,9 @@ def expression_faults(node, has_eq):
 def faults(text):
     """Return the rules that the code of one file breaks."""
     tree = ast.parse(text)
-    has_eq = any(method.name == '__eq__' for method in methods_of(tree)) or 'linkorder.libraries' in text
     found = list(text_faults(text)) + list(module_faults(tree)) + list(name_faults(tree)) + list(set_faults(tree))
     for node in ast.walk(tree):
-        found += expression_faults(node, has_eq)
+        found += expression_faults(node)
     return found
 
 
@@ -268,7 +322,15 @@ class CheckerTest(unittest.TestCase):
             ('L5 method', 'class A:\n    def __hash__(self):\n        return 1'),
             ('L7 float', 'A = 1.5'),
             ('L20 is', 'def f(a, b):\n    return a is b'),
-            ('L7 generator', 'from linkorder.libraries import is_name\ndef f(a):\n    return all(b for b in a)'),
+            ('L7 generator', 'def f(a):\n    return all(b for b in a)'),
+            ('L22 keyword', 'def f(a):\n    return list(a, key=len)'),
+            ('L23 loop', 'def f(a):\n    for b in a:\n        a.append(b)'),
+            ('L23 loop', 'def f(a):\n    for at, b in enumerate(a):\n        a[at] = b'),
+            ('L23 loop', 'def f(a, k):\n    for b in a[k]:\n        k = b'),
+            ('L24 stored set', 'def f(a):\n    b = set(a)\n    return b'),
+            ('L24 stored set', 'def f(a):\n    b = set(a)\n    for c in b:\n        c()'),
+            ('L24 stored set', 'def f(a):\n    b = {c for c in a}\n    b = {c for c in b}'),
+            ('L24 stored set', 'def f(a):\n    b = set()\n    a(b)'),
             ('L19 raise', 'def f(a):\n    raise a'),
             ('L19 except', 'def f(a):\n    try:\n        a()\n    except Exception:\n        pass'),
             ('L4 decorator', '@cache\ndef f(a):\n    pass'),

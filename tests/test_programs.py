@@ -8,7 +8,7 @@ from linkorder.libraries import Library
 from linkorder.programs import closure, is_buildable, is_program, obstacles
 from tests.helpers import (
     EXAMPLE, RICH, WRONG_NAMES, any_values, keyword_calls, only_tuples, read_closure, read_obstacles, reads_as_program,
-    run_examples, same_value, sample_archives, sample_programs, symbols_of, variants,
+    row_of, run_examples, same_value, sample_archives, sample_programs, symbols_of, variants,
 )
 
 DOCUMENT = """
@@ -20,12 +20,6 @@ DOCUMENT = """
 """
 
 PROGRAM = (('d', 'e'), ('f', 'g', 'h'))
-
-
-def row_of(count, last=()):
-    """Return eight archives over which a row of members is dealt; each needs the next one's symbol."""
-    members = [(f'm{at:02}', (f's{at:02}',), (f's{at + 1:02}',) if at + 1 < count else last) for at in range(count)]
-    return tuple((f'a{at}', tuple(members[at::8])) for at in range(8))
 
 
 class DocumentTest(unittest.TestCase):

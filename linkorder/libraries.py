@@ -17,6 +17,11 @@ def is_name(value):
     return all([character in NAME_CHARACTERS for character in value])
 
 
+def is_natural(value):
+    """Tell whether a value is an integer from 0."""
+    return isinstance(value, int) and not isinstance(value, bool) and value >= 0
+
+
 def are_ascending(names):
     """Tell whether each name is less than the next one."""
     return all([name < later for name, later in zip(names, names[1:])])

@@ -145,6 +145,8 @@ def variants(value):
         if isinstance(old, tuple):
             new += [list(old), old[::-1], old + old, old[:-1], old[1:], (old,), old + (None,), old + ([],), dict.fromkeys(old)]
             new += [old + (old[-1],), (old[0],) + old] if old else []
+        elif isinstance(old, int):
+            new += [old + 1, old - 1, -old, bool(old), not old, str(old), [old], (old,), {old: old}]
         else:
             new += [old.upper(), old + ' ', old[:-1], [old], (old,), {old: old}]
         found += [replaced(value, path, item) for item in new]
@@ -243,6 +245,10 @@ def reads_as_line(archives, value):
         if list(item) != sorted(set(item)):
             return False
     return True
+
+
+def reads_as_plain_line(archives, value):
+    return reads_as_line(archives, value) and all(type(item) is str for item in value)
 
 
 def read_members(archives):
@@ -347,6 +353,85 @@ def read_lines(archives, every, start, limit=10 ** 6):
                     fresh.append(behind)
         grown = fresh
     return lines
+
+
+def reads_as_certificate(archives, value):
+    """Tell whether a value is a certificate, whatever the number of chains."""
+    if type(value) is not tuple or len(value) != 3:
+        return False
+    line, proof, ranks = value
+    if not reads_as_plain_line(archives, line) or not reads_as_serving(archives, line):
+        return False
+    if type(proof) is not tuple or type(ranks) is not tuple:
+        return False
+    if not all(reads_as_chain(archives, chain) for chain in proof):
+        return False
+    every = [read_word(archives, chain) for chain in proof]
+    for pair in ranks:
+        if type(pair) is not tuple or len(pair) != 2 or type(pair[0]) is not tuple or type(pair[1]) is not int:
+            return False
+        if [type(read) for read in pair[0]] != [int] * len(every) or pair[1] < 0:
+            return False
+        if not all(read in range(len(letters) + 1) for read, letters in zip(pair[0], every)):
+            return False
+    known = dict(ranks)
+    if len(known) < len(ranks) or known.get((0,) * len(every)) != len(line):
+        return False
+    for state in (state for state in known if known[state] > 0):
+        behind = [read_step(every, state, archive) for archive, _ in archives]
+        if all(read == len(letters) for read, letters in zip(state, every)):
+            return False
+        if not set(behind) <= set(known) or min(known[other] for other in behind) < known[state] - 1:
+            return False
+    return True
+
+
+def read_pulled(archives, programs, limit=10 ** 6):
+    """Return the least of the shortest lines that lead to each tuple of sets of pulled members."""
+    members = read_members(archives)
+
+    def pulled_behind(program, pulled, home):
+        grown = set(pulled)
+        while True:
+            needed = set(program[1]).union(*(members[name][2] for name in grown))
+            defined = set(program[0]).union(*(members[name][1] for name in grown))
+            ready = {name for name in members if members[name][0] == home and members[name][1] & (needed - defined)}
+            if ready <= grown:
+                return frozenset(grown)
+            grown |= ready
+
+    start = (frozenset(),) * len(programs)
+    lines, grown = {start: ()}, [start]
+    while grown and len(lines) <= limit:
+        fresh = []
+        for state in grown:
+            for home, _ in archives:
+                behind = tuple(pulled_behind(program, pulled, home) for program, pulled in zip(programs, state))
+                if behind not in lines:
+                    lines[behind] = lines[state] + (home,)
+                    fresh.append(behind)
+        grown = fresh
+    return lines
+
+
+def read_for(archives, programs):
+    """Return the least of the shortest lines that link all programs, None if one is not buildable."""
+    if any(read_obstacles(archives, program) != ((), ()) for program in programs):
+        return None
+    goal = tuple(frozenset(read_closure(archives, program)) for program in programs)
+    return read_pulled(archives, programs)[goal]
+
+
+def plain_lines(archives, length):
+    """Return all lines without groups of a length, in ascending order."""
+    return list(itertools.product([archive[0] for archive in archives], repeat=length))
+
+
+def serving_lines(archives, length):
+    """Return those of them that serve, each of them tried by itself."""
+    every = read_words(archives)
+    return [line for line in plain_lines(archives, length)
+            if all(most_letters(line, letters) == len(letters) for letters in every)]
 
 
 def subsets(pool):

@@ -39,6 +39,8 @@ LAYERS_CROWDED = (3, 3, 3, 3, 3, 3)
 # Rows of members, written as the archives of their members, that have just this many states.
 ROWS_5000 = ('bcd', 'bada', 'cacab', 'dbda', 'efef', 'ghgh')
 ROWS_5001 = ('cege', 'gd', 'bgfef', 'aeb', 'hdbhbhf', 'fcb')
+# As many, but a row begins with each of the archives, so that no archive leads to the start state.
+ROWS_5001_LEFT = ('agcf', 'ba', 'cadb', 'deb', 'edf', 'fadb', 'geda')
 
 
 def row_of(count, last=()):
@@ -432,6 +434,115 @@ def serving_lines(archives, length):
     every = read_words(archives)
     return [line for line in plain_lines(archives, length)
             if all(most_letters(line, letters) == len(letters) for letters in every)]
+
+
+def read_repaired(archives, line):
+    """Return the least of the shortest lines that serve and have the line as a part, of all lines of each length."""
+    for length in itertools.count(len(line)):
+        for longer in serving_lines(archives, length):
+            if reads_as_part(line, longer):
+                return longer
+
+
+def read_pruned(archives, line):
+    """Return the least of the shortest parts of the line that serve, of all its parts, or None."""
+    every = read_words(archives)
+    parts = {tuple(line[at] for at in places) for places in subsets(range(len(line)))}
+    serving = [part for part in parts if all(most_letters(part, letters) == len(letters) for letters in every)]
+    return min(serving, key=lambda part: (len(part), part), default=None)
+
+
+def read_leads(archives):
+    """Return the pairs of archives of which the first one leads to the second one."""
+    members = read_members(archives)
+    pairs = {(members[one][0], members[other][0]) for one, other in read_uses(archives)}
+    while True:
+        grown = pairs | {(one, far) for one, other in pairs for near, far in pairs if other == near}
+        if grown == pairs:
+            return pairs
+        pairs = grown
+
+
+def read_grouped(archives):
+    """Return the grouped line: of all orders of the items that are allowed, the one with the least first names."""
+    leads = read_leads(archives)
+    names = [name for name, members in archives if members]
+    groups = {tuple(other for other in names if other == name or {(name, other), (other, name)} <= leads) for name in names}
+    orders = [order for order in itertools.permutations(sorted(groups))
+              if not any((later[0], sooner[0]) in leads for sooner, later in itertools.combinations(order, 2))]
+    return tuple(group if len(group) > 1 else group[0] for group in min(orders))
+
+
+NAME = '[a-z0-9]{1,8}'
+NAMES = f'{NAME}( {NAME})*'
+LIBRARY_ROW = re.compile(f'(archive|member) {NAME}|(defines|needs) {NAMES}')
+PROGRAM_ROW = re.compile(f'(defines|needs) (-|{NAMES})')
+LINE_ROW = re.compile(rf'-|({NAME}|\({NAMES}\))( ({NAME}|\({NAMES}\)))*')
+
+
+def read_rows(text, form):
+    """Return the rows of a text, or the number of the row that is in the error."""
+    if type(text) is not str:
+        return 0
+    rows = text.split('\n')
+    without = [at for at, row in enumerate(rows) if not form.fullmatch(row)]
+    return without[0] if without else rows
+
+
+def read_library_text(text):
+    """Return the archives of a text, or the number of the row that is in the error."""
+    if type(text) is str and text == '':
+        return ()
+    rows = read_rows(text, LIBRARY_ROW)
+    if type(rows) is int:
+        return rows
+    # The first letters of the rows tell whether they stand in an order that is allowed.
+    if not re.fullmatch('(a(mdn?)*)*', ''.join(row[0] for row in rows)):
+        return len(rows)
+    archives = []
+    for word, *names in [row.split() for row in rows]:
+        if word == 'archive':
+            archives.append([names[0], []])
+        elif word == 'member':
+            archives[-1][1].append([names[0], (), ()])
+        else:
+            archives[-1][1][-1][('defines', 'needs').index(word) + 1] = tuple(names)
+    value = tuple((name, tuple(tuple(member) for member in members)) for name, members in archives)
+    return value if reads_as_library(value) else len(rows)
+
+
+def read_program_text(text):
+    """Return the program of a text, or the number of the row that is in the error."""
+    rows = read_rows(text, PROGRAM_ROW)
+    if type(rows) is int:
+        return rows
+    program = tuple(() if row.endswith(' -') else tuple(row.split()[1:]) for row in rows)
+    ordered = [row.split()[0] for row in rows] == ['defines', 'needs']
+    return program if ordered and reads_as_program(program) else len(rows)
+
+
+def read_line_text(text):
+    """Return the line of a text, or the number of the row that is in the error."""
+    rows = read_rows(text, LINE_ROW)
+    if type(rows) is int:
+        return rows
+    line = []
+    for item in re.findall(r'\([^)]*\)|[^ ()-]+', rows[0]):
+        line.append(tuple(item[1:-1].split()) if item.startswith('(') else item)
+    groups = [item for item in line if type(item) is tuple]
+    right = all(len(group) > 1 and list(group) == sorted(set(group)) for group in groups)
+    return tuple(line) if right and len(rows) == 1 and len(line) <= 200 else len(rows)
+
+
+def changed_texts(text, signs):
+    """Return a text with one sign replaced, left out, doubled or put in, at every place."""
+    found = [text]
+    for at in range(len(text) + 1):
+        found += [text[:at] + sign + text[at:] for sign in signs]
+        if at < len(text):
+            found += [text[:at] + sign + text[at + 1:] for sign in signs]
+            found += [text[:at] + text[at + 1:], text[:at] + text[at] + text[at:]]
+    return found
 
 
 def subsets(pool):

@@ -12,10 +12,10 @@ from linkorder.linking import links
 from linkorder.serving import chain_program
 from linkorder.shortest import shortest_line
 from tests.helpers import (
-    EXAMPLE, LAYERS_1000, LAYERS_CROWDED, RICH, RING, ROWS_5000, ROWS_5001, any_values, buildable_programs,
-    keyword_calls, layers_of, only_tuples, plain_lines, read_chains, read_for, read_link, read_pulled, read_word,
-    read_words, reads_as_program, row_of, rows_of, run_examples, same_value, sample_archives, sample_programs,
-    small_archives, symbols_of, variants,
+    EXAMPLE, LAYERS_1000, LAYERS_CROWDED, RICH, RING, ROWS_5000, ROWS_5001, ROWS_5001_LEFT, any_values,
+    buildable_programs, keyword_calls, layers_of, only_tuples, plain_lines, read_chains, read_for, read_link,
+    read_pulled, read_word, read_words, reads_as_program, row_of, rows_of, run_examples, same_value,
+    sample_archives, sample_programs, small_archives, symbols_of, variants,
 )
 
 DOCUMENT = """
@@ -222,6 +222,8 @@ class BoundsTest(unittest.TestCase):
             self.assertEqual(shortest_for(Library(archives), programs), read_for(archives, programs))
 
     def test_more_than_five_thousand_tuples(self):
+        self.assertEqual(len(read_pulled(rows_of(ROWS_5001_LEFT), (((), firsts_of(ROWS_5001_LEFT)),), 6000)), 5001)
+        self.raised(rows_of(ROWS_5001_LEFT), (((), firsts_of(ROWS_5001_LEFT)),))
         archives = rows_of(ROWS_5001)
         firsts = firsts_of(ROWS_5001)
         for programs in ((((), firsts),), (((), firsts[:2]), ((), firsts[2:4]), ((), firsts[4:])),

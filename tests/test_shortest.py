@@ -11,8 +11,8 @@ from linkorder.libraries import Library
 from linkorder.serving import serves
 from linkorder.shortest import distance, shortest_line, state_after
 from tests.helpers import (
-    EXAMPLE, LAYERS_1000, LAYERS_CROWDED, RICH, RING, ROWS_5000, ROWS_5001, any_values, buildable_programs,
-    keyword_calls, layers_of, only_tuples, read_chains, read_lines, read_link, read_step, read_word, read_words,
+    EXAMPLE, LAYERS_1000, LAYERS_CROWDED, RICH, RING, ROWS_5000, ROWS_5001, ROWS_5001_LEFT, any_values,
+    buildable_programs, keyword_calls, layers_of, only_tuples, read_chains, read_lines, read_link, read_step, read_word, read_words,
     reads_as_line, reads_as_serving, row_of, rows_of, run_examples, same_value, sample_archives, small_archives,
     some_lines, variants,
 )
@@ -259,6 +259,8 @@ class SearchErrorsTest(unittest.TestCase):
     def test_more_than_five_thousand_states(self):
         self.assertEqual(self.states(rows_of(ROWS_5001), 6000), 5001)
         self.raised(rows_of(ROWS_5001), TooManyStates)
+        self.assertEqual(self.states(rows_of(ROWS_5001_LEFT), 6000), 5001)
+        self.raised(rows_of(ROWS_5001_LEFT), TooManyStates)
         rows = ('abc', 'bad', 'cef', 'dgh', 'eha', 'fb', 'gc', 'hd', 'ac')
         self.assertEqual(self.states(rows_of(rows), 6000), 5927)
         self.raised(rows_of(rows), TooManyStates)

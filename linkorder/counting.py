@@ -27,7 +27,7 @@ def counts_up_to(moves, length):
 def line_count(library, length):
     """Return the number of lines of this length that serve."""
     moves = word_moves(library)
-    return counts_up_to(moves, length)[length][start_of(moves)]
+    return counts_up_to(moves, length)[-1][start_of(moves)]
 
 
 def first_of_line(ways, counts, number):
@@ -45,7 +45,7 @@ def line_at(library, length, number):
     moves = word_moves(library)
     rows = counts_up_to(moves, length)
     state = start_of(moves)
-    if not is_natural(number) or number >= rows[length][state]:
+    if not is_natural(number) or number >= rows[-1][state]:
         raise InvalidNumber(number)
     line = []
     rest = number

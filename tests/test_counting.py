@@ -197,6 +197,9 @@ class LargeNumbersTest(unittest.TestCase):
             unread = sum(lines_that_read(length, many) for many in range(4))
             self.assertEqual(line_count(library, length), 2 ** length - unread)
             self.assertEqual(line_at(library, length, 0), ('a',) * (length - 3) + ('b', 'a', 'b'))
+        # What is returned below 0 is not said, but it is no error.
+        for length in (-1, -2):
+            self.assertIs(type(line_count(library, length)), int)
 
 
 class NumbersTest(unittest.TestCase):
